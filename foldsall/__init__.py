@@ -1,0 +1,1 @@
+"""Foldsall: which looks at a program miss nothing."""

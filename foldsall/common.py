@@ -1,0 +1,256 @@
+"""What several modules need: checks of plain values, rows, growing lots of rows, programs in the making."""
+
+from itertools import combinations
+
+
+def is_integer(value):
+    """Whether a value is an integer; a bool is none here."""
+    return isinstance(value, int) and not isinstance(value, bool)
+
+
+def is_number(value):
+    """Whether a value is an integer from 0 on."""
+    return is_integer(value) and value >= 0
+
+
+def is_below(many, value):
+    """Whether a value is a number below many."""
+    return is_number(value) and value < many
+
+
+def is_between(least, most, value):
+    """Whether a value is an integer from least to most."""
+    return is_integer(value) and least <= value <= most
+
+
+def is_sequence(value):
+    """Whether a value may be passed where a sequence is expected."""
+    return isinstance(value, (list, tuple))
+
+
+def is_row_of(many, value):
+    """Whether a value is a sequence of just so many things."""
+    return is_sequence(value) and len(value) == many
+
+
+def is_tuple_of(many, value):
+    """Whether a value is a tuple of just so many things; papers and programs have no lists."""
+    return isinstance(value, tuple) and len(value) == many
+
+
+def first_not_rising(many, values):
+    """The place of the first thing that is no number below many, or not above the one ahead; None if all are."""
+    for at, value in enumerate(values):
+        if not is_below(many, value):
+            return at
+        if at > 0 and value <= values[at - 1]:
+            return at
+    return None
+
+
+def is_value_list(size, value):
+    """Whether a sequence has one value or more of a size, ascending, unlike."""
+    return is_sequence(value) and len(value) > 0 and first_not_rising(size, value) is None
+
+
+def power(base, times):
+    """The base, as often as told with itself: exponents that are no literals are not let."""
+    product_now = 1
+    for _ in range(times):
+        product_now *= base
+    return product_now
+
+
+def product_of(numbers):
+    """All numbers, each with each."""
+    product_now = 1
+    for number in numbers:
+        product_now *= number
+    return product_now
+
+
+def all_rows(choices):
+    """All rows of one thing of each of the choices, in their order, the first place counting most."""
+    rows = [()]
+    for things in choices:
+        rows = [(*row, thing) for row in rows for thing in things]
+    return rows
+
+
+def value_rows(size, places):
+    """All rows of so many values, ascending."""
+    return all_rows([list(range(size)) for _ in range(places)])
+
+
+def unlike_couples(many):
+    """All (one, other) of unlike numbers below many, ascending."""
+    return [(one, other) for one in range(many) for other in range(many) if one != other]
+
+
+def lots_below(many, length):
+    """All ascending rows of so many unlike numbers below many, ascending."""
+    return list(combinations(range(many), length))
+
+
+def spot_in(sizes, row):
+    """Where the answer for a row of values stands, if values are of these sizes."""
+    spot = 0
+    for size, value in zip(sizes, row):
+        spot = spot * size + value
+    return spot
+
+
+def answered(answers, sizes, rows):
+    """The answers of rows, one for each place, value by value."""
+    spots = rows[0]
+    for at in range(1, len(rows)):
+        size = sizes[at]
+        spots = [spot * size + value for spot, value in zip(spots, rows[at])]
+    return tuple([answers[spot] for spot in spots])
+
+
+def is_alike(row):
+    """Whether a row has one value throughout."""
+    return row.count(row[0]) == len(row)
+
+
+def held_many(held):
+    """At how many places something is held."""
+    return len(held) - held.count(None)
+
+
+def held_choices(worlds):
+    """All ways to hold some places at values of their own, one place at least left; the fewest held first."""
+    rows = all_rows([[None, *values] for values in worlds])
+    return sorted([row for row in rows if None in row], key=held_many)
+
+
+def left_places(held):
+    """The places that are not held."""
+    return [place for place, value in enumerate(held) if value is None]
+
+
+def held_answers(answers, sizes, held):
+    """The answers for all rows of values at the places left, the others as held."""
+    choices = [list(range(size)) if value is None else [value] for size, value in zip(sizes, held)]
+    return tuple([answers[spot_in(sizes, row)] for row in all_rows(choices)])
+
+
+def hangs_at(sizes, answers, place):
+    """Whether two rows that differ at the place alone have unlike answers, if places have these sizes."""
+    step = product_of(sizes[place + 1:])
+    for spot, answer in enumerate(answers):
+        # Each row beside the one with 0 at the place: if none is unlike that one, no two are unlike.
+        if answer != answers[spot - (spot // step % sizes[place]) * step]:
+            return True
+    return False
+
+
+class HeldTable:
+    """An operation with told values at some places: how it is written, and what it makes of the rest.
+
+    `parts` has a told row, or None, for each place; `sorts` and `sizes` are those of the places left,
+    `made` is the sort of the answers. A book of plain values has the one sort 0.
+    """
+
+    def __init__(self, number, parts, sorts, sizes, made, answers):
+        self.number = number
+        self.parts = parts
+        self.sorts = sorts
+        self.sizes = sizes
+        self.made = made
+        self.answers = answers
+
+
+class Growth:
+    """The least lot of rows, by sorts, that has some rows and all that held tables lead rows of it to."""
+
+    def __init__(self, sorts_many, tables):
+        self.tables = tables
+        self.found = [[] for _ in range(sorts_many)]
+        self.done = [0 for _ in range(sorts_many)]
+        self.reasons = {}
+        self.order = []
+        self.alike = None
+
+    def take_row(self, sort, row, reason):
+        """Takes a row in, if it is new."""
+        if (sort, row) in self.reasons:
+            return
+        self.reasons[(sort, row)] = reason
+        self.order.append((sort, row))
+        self.found[sort].append(row)
+        if self.alike is None and is_alike(row):
+            self.alike = (sort, row)
+
+    def grow(self, till_alike):
+        """Goes on till nothing new comes, or till a row of one value throughout is there."""
+        at = 0
+        while at < len(self.order) and not (till_alike and self.alike is not None):
+            sort, row = self.order[at]
+            for table in self.tables:
+                self.lead(table, sort, row)
+            self.done[sort] += 1
+            at += 1
+
+    def lead(self, table, sort, row):
+        """Takes in what a table makes of rows done before and this one, this one among them."""
+        for first, own in enumerate(table.sorts):
+            if own != sort:
+                continue
+            choices = []
+            for place, other in enumerate(table.sorts):
+                behind = place > first and other == sort
+                choices.append(self.found[other][:self.done[other] + (1 if behind else 0)])
+            choices[first] = [row]
+            for rows in all_rows(choices):
+                self.take_row(table.made, answered(table.answers, table.sizes, rows), (table, rows))
+
+
+class Weave:
+    """Rows of a straight program in the making, behind some inputs."""
+
+    def __init__(self, many):
+        self.many = many
+        self.rows = []
+        self.told = {}
+
+    def put_line(self, line):
+        """Puts a row behind all, and tells its number."""
+        self.rows.append(line)
+        self.many += 1
+        return self.many - 1
+
+    def put_told(self, line):
+        """Tells the number of a told row, which is put just once."""
+        if line not in self.told:
+            self.told[line] = self.put_line(line)
+        return self.told[line]
+
+    def put_table(self, table, numbers):
+        """Puts a row of a held table that reads these registers at the places left."""
+        reads = []
+        at = 0
+        for part in table.parts:
+            if part is None:
+                reads.append(numbers[at])
+                at += 1
+            else:
+                reads.append(self.put_told(part))
+        return self.put_line(("of", table.number, tuple(reads)))
+
+    def put_grown(self, growth, starts, goal):
+        """Puts the rows that lead from the starts' registers to a row that has grown; tells its register."""
+        needed = {goal: True}
+        for key in reversed(growth.order):
+            if key in needed and key not in starts:
+                table, rows = growth.reasons[key]
+                for sort, row in zip(table.sorts, rows):
+                    needed[(sort, row)] = True
+        numbers = {key: starts[key] for key in starts}
+        for key in growth.order:
+            if key in needed and key not in numbers:
+                table, rows = growth.reasons[key]
+                reads = [numbers[(sort, row)] for sort, row in zip(table.sorts, rows)]
+                numbers[key] = self.put_table(table, reads)
+        return numbers[goal]

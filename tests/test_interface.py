@@ -1,0 +1,55 @@
+"""The interface: names, arguments, defaults, and the file in which each is defined; calls tell the same again."""
+
+import ast
+import importlib
+import inspect
+import os
+import unittest
+
+import foldsall
+
+INTERFACE = {
+    "sorts": "need_sorted(value) program_sorts(book,program) sorted_values(book,program,values) "
+             "sorted_folds(book,program) sorted_kept(book,program,lists) sorts_reached(book) sort_parts(book)",
+    "tables": "need_operation(size,value) need_book(value) held_table(size,operation,held) "
+              "settled_value(size,operation,held) hung_places(size,operation) least_table(size,operation) "
+              "two_places(size,operation) joined_table(size,operation,tables)",
+    "arrows": "least_arrows(book,one,other) are_arrows(book,value) sure_pairs(book)",
+    "books": "keeps_pairs(size,pairs,operation) kept_maps(size,pairs) apart_pairs(size,pairs) pairs_kind(size,pairs) "
+             "grown_pairs(size,pairs) further_map(size,pairs) all_greatest(size) greatest_over(book)",
+    "cells": "rising_paper(size,operation) rising_holds(size,operation,value) book_cells(book) "
+             "book_cells_hold(book,value)",
+    "levels": "expression_text(book,key,tree)",
+    "programs": "need_program(book,value) register_count(book,program) is_straight(book,program) "
+                "register_sources(book,program) put_behind(book,one,other) unrolled(book,program,turns)",
+    "sortrows": "sorted_paper(book) sorted_holds(book,value) fewest_joint(book)",
+    "counts": "whole_count(size,pairs,places) looked_form(size,pairs,operation) "
+              "formed_operation(size,pairs,places,form) nth_operation(size,pairs,places,number) "
+              "operation_number(size,pairs,operation) whole_operations(size,pairs,places) joining_count(book,places)",
+    "court": "court_paper(book) court_holds(book,value) least_ranges(book) range_program(book,lot) lists_grade(book)",
+    "folding": "kept_sets(book,program,k=None) folded_values(book,program) quick_sets(book,program,k=None) "
+               "kept_paper(book,program,k=None) kept_holds(book,program,k,value)",
+    "lots": "lot_paper(book,lot,values) lot_holds(book,lot,values,value) let_lots(book) pair_lots(book,one,other)",
+}
+
+
+class InterfaceTest(unittest.TestCase):
+    def test_functions(self):
+        for name, told in INTERFACE.items():
+            module = importlib.import_module("foldsall." + name)
+            with open(module.__file__, encoding="utf-8") as source:
+                defined = {node.name for node in ast.parse(source.read()).body if isinstance(node, ast.FunctionDef)}
+            for head in told.split(" "):
+                word, parameters = head.rstrip(")").split("(")
+                self.assertIn(word, defined)
+                signature = str(inspect.signature(getattr(module, word)))
+                self.assertEqual(signature.replace(", ", ","), "(" + parameters + ")")
+
+    def test_one_package(self):
+        self.assertEqual(os.path.basename(os.path.dirname(foldsall.__file__)), "foldsall")
+        for name in ("errors",) + tuple(INTERFACE):
+            self.assertTrue(os.path.exists(os.path.join(os.path.dirname(foldsall.__file__), name + ".py")))
+
+
+if __name__ == "__main__":
+    unittest.main()
