@@ -1,7 +1,7 @@
 """Whole books: all operations that keep some pairs of values, and the greatest such books."""
 
 from foldsall.arrows import are_led_within, held_tables
-from foldsall.common import (all_rows, is_alike, is_below, is_between, is_row_of, is_sequence, lots_below,
+from foldsall.common import (all_rows, is_below, is_between, is_row_of, is_sequence, lots_below,
                              unlike_couples, value_rows)
 from foldsall.errors import InvalidArrows, InvalidSize
 from foldsall.tables import need_book, need_operation
@@ -134,10 +134,10 @@ def further_map(size, pairs):
     sides = are_sides(pairs)
     wider = grown(size, pairs)
     for row in value_rows(size, size):
-        if is_alike(row) or leads_pairs(row, pairs):
-            continue
+        # Constant maps are in each whole book, and lead no pair to a pair: neither way are they told here.
         # Of sides all that the whole book keeps lies between the two sides; of colours maps alone tell.
-        if leads_pairs(row, wider) if sides else keeps_some(size, [*maps, row]):
+        fits = leads_pairs(row, wider) if sides else keeps_some(size, [*maps, row])
+        if fits and not leads_pairs(row, pairs):
             return row
     return None
 

@@ -125,11 +125,6 @@ def held_choices(worlds):
     return sorted([row for row in rows if None in row], key=held_many)
 
 
-def left_places(held):
-    """The places that are not held."""
-    return [place for place, value in enumerate(held) if value is None]
-
-
 def held_answers(answers, sizes, held):
     """The answers for all rows of values at the places left, the others as held."""
     choices = [list(range(size)) if value is None else [value] for size, value in zip(sizes, held)]

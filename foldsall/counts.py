@@ -248,7 +248,7 @@ def joined_lines(size, pairs):
         columns = [tuple([row[at] for row in rows]) for at in range(size)]
         if all([column in lines for column in columns]):
             answers = tuple([answer for row in rows for answer in row])
-            if is_alike(answers) or is_kept(size, pairs, (2, answers)):
+            if is_kept(size, pairs, (2, answers)):
                 found.append(answers)
     return found
 

@@ -171,6 +171,13 @@ class BookCellsTest(Fails, unittest.TestCase):
         rows = (((0, 2), (1,), (3,)), ((0, 1),))
         self.assertIs(book_cells_hold(book, (2, ((2, (1, 1, 1, 1)), (1, (1, 1))), rows)), False)
         self.assertIs(book_cells_hold(book, (1, ((2, (1, 1, 0, 0)), NOT), rows)), True)
+        # Rows of one cell or more, each cell once, even if cells less rows would be enough.
+        others = ((2, (1, 1, 0, 0)), NOT)
+        for row in (((0, 2), (1,), (3,), ()), ((0, 2), (1,), (3,), (3,)), ((0, 2), (1,)), ((0, 2), (1, 3))):
+            self.assertIs(book_cells_hold(book, (1, others, (row, rows[1]))), False)
+        self.assertIs(book_cells_hold(book, (1, others, (((0,), (1,), (2,), (3,)), rows[1]))), True)
+        self.assertIs(book_cells_hold((2, (NOT,)), (0, ((2, (1, 0, 0, 1)),), (((0, 1),),))), False)
+        self.assertIs(book_cells_hold((2, (NOT,)), (0, (NOT,), (((0, 1),),))), True)
 
     def test_changed_papers(self):
         for operations in ((XOR, NOT), (SAME,)):

@@ -147,7 +147,8 @@ class FormsTest(Fails, unittest.TestCase):
             ("look", 0, (0, 0), (("told", 2),)), ("look", 0, (1, 2), (("told", 2),)), ("look", 0, [1, 0], (("told", 2),)),
             ("look", 0, (1, 0), [("told", 2)]), ("look", 0, (1, 0), ()), ("look", 0, (1, 0), (("told", 2),) * 2),
             ("look", True, (1, 0), (("told", 2),)), ("look", 0, (True, False), (("told", 2),)), ("look", 0, (1, 0), (FREE,)),
-            ("look", 0, (1, 0, 2), (("told", 2),)), ("looks", 0, (1, 0), (("told", 2),))]
+            ("look", 0, None, (("told", 2),)), ("look", 0, 10, (("told", 2),)), ("look", 0, (1,), (("told", 2),)),
+            ("look", 0, (1, 0), None), (None, 0, (1, 0), (("told", 2),)), ("look", 0, (1, 0, 2), (("told", 2),)), ("looks", 0, (1, 0), (("told", 2),))]
         for form in wrong:
             self.fails_at(InvalidTree, -1, formed_operation, 3, COLOURS, 1, form)
             self.fails_at(InvalidTree, -1, formed_operation, 3, COLOURS, 2, ("look", 0, (1, 0), (form,)))

@@ -3,7 +3,7 @@
 import itertools
 import unittest
 
-from foldsall.arrows import are_arrows, sure_pairs
+from foldsall.arrows import are_arrows, least_arrows, sure_pairs
 from foldsall.court import court_holds, court_paper, least_ranges, lists_grade, range_program
 from foldsall.errors import InvalidBook, Refused
 from foldsall.folding import folded_values
@@ -46,6 +46,13 @@ def brute_grade(book):
 
 
 class CourtTest(Fails, unittest.TestCase):
+    def test_least_arrows_are_what_ends_of_open_stories_have(self):
+        for book in small_books():
+            rows = open_rows(book)
+            for one, other in itertools.product(range(book[0]), repeat=2):
+                self.assertEqual(least_arrows(book, one, other),
+                                 tuple(sorted({(row[one], row[other]) for row in rows})))
+
     def test_papers(self):
         words = {"arrows": 0, "story": 0}
         for book in small_books():
@@ -151,6 +158,20 @@ class RangesTest(Fails, unittest.TestCase):
                 row = end_row(book, program)
                 self.assertEqual(tuple(sorted(set(row))), lot)
                 self.assertTrue(all(row[value] == value for value in lot))
+
+    def test_what_holds_of_ranges(self):
+        for book in small_books():
+            rows, least = open_rows(book), least_ranges(book)
+            for lot in least:
+                led = {tuple(row[value] for value in lot) for row in rows}
+                # Unlike values to unlike ones, onto a least range, and onto each.
+                self.assertTrue(all(len(set(row)) == len(lot) for row in led))
+                self.assertEqual({tuple(sorted(row)) for row in led}, set(least))
+            narrow = [row for row in rows if tuple(sorted(set(row))) in least]
+            for one, other in itertools.permutations(range(book[0]), 2):
+                apart = all(row[one] != row[other] for row in narrow)
+                self.assertEqual((one, other) in sure_pairs(book), apart)
+                self.assertEqual(apart, all(row[one] != row[other] for row in rows))
 
     def test_more_values(self):
         turn, down = (1, (1, 2, 3, 4, 0)), (1, (0, 1, 2, 3, 0))

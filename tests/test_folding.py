@@ -89,9 +89,13 @@ class KeptTest(Fails, unittest.TestCase):
     def test_shown_values_are_kept(self):
         for book, program in random_programs(120):
             kept = kept_sets(book, program)
-            one = kept_sets(book, program, 1)
-            for lot, wider in zip(kept, one):
-                self.assertLessEqual(set(lot), set(wider))
+            less = kept
+            for k in range(9, 0, -1):
+                # A greater k keeps no more.
+                wider = kept_sets(book, program, k)
+                for lot, other in zip(less, wider):
+                    self.assertLessEqual(set(lot), set(other))
+                less = wider
             for run in itertools.islice(all_runs(book, program, 2), 100):
                 for trace, lot in zip(run.trace, kept):
                     self.assertLessEqual(set(trace), set(lot))

@@ -220,6 +220,8 @@ class LanguageTest(unittest.TestCase):
                     attributes |= stored
         self.assertFalse(attributes & NO_ATTRIBUTES)
         self.assertFalse(methods & NO_ATTRIBUTES)
+        for kind in ("", 0, [], {}, set(), b"", ()):
+            self.assertFalse((methods | attributes) & {name for name in dir(kind) if not name.startswith("__")})
         for name, text, tree in self.each():
             for node in ast.walk(tree):
                 if isinstance(node, ast.Attribute):
@@ -261,6 +263,33 @@ class LanguageTest(unittest.TestCase):
                         if isinstance(part, ast.FormattedValue):
                             self.assertFalse([one for one in ast.walk(part.value) if isinstance(one, ast.Constant)
                                               and isinstance(one.value, str)])
+
+    def test_nested_names(self):
+        """The variable of a comprehension within another one is none that is assigned further out."""
+        for name, text, tree in self.each():
+            for function in ast.walk(tree):
+                if not isinstance(function, ast.FunctionDef):
+                    continue
+                outer = {node.id for node in ast.walk(function) if isinstance(node, ast.Name)
+                         and isinstance(node.ctx, ast.Store) and not self.comprehensions_above(node, function)}
+                outer |= {argument.arg for argument in function.args.args}
+                for node in ast.walk(function):
+                    if isinstance(node, ast.Name) and isinstance(node.ctx, ast.Store):
+                        above = self.comprehensions_above(node, function)
+                        if len(above) > 1:
+                            self.assertNotIn(node.id, outer, function.name)
+                            for other in above[1:]:
+                                own = {part.id for one in other.generators for part in ast.walk(one.target)
+                                       if isinstance(part, ast.Name)}
+                                self.assertNotIn(node.id, own, function.name)
+
+    def comprehensions_above(self, node, function):
+        found = []
+        while node is not function:
+            node = node.parent
+            if isinstance(node, (ast.ListComp, ast.SetComp, ast.DictComp)):
+                found.append(node)
+        return found
 
     def test_errors(self):
         for name, text, tree in self.each():

@@ -146,7 +146,8 @@ class TextsTest(Fails, unittest.TestCase):
             list(right), ("of", 0, [value(1), value(0)]), ("of", 0, (value(1),)), ("of", 4, (value(1),)),
             ("of", True, (value(1), value(0))), ("of", 3, value(1)), ("of", -1, (value(1),)), ("value", True),
             ("value", 2), ("value", -1), ("value", "1"), ("value", 1, 0), ("name", "not"), ("name", "in"),
-            ("name", "X"), ("name", ""), ("name", 3), ("name", ["x"]), ("name",), ("names", "x"), (["name"], "x")]
+            ("name", "X"), ("name", ""), ("name", 3), ("name", ["x"]), ("name",), ("names", "x"), (["name"], "x"),
+            ("off", 0, (value(1), value(0))), (None, 3, (value(1),)), ("value", 3, (value(1),))]
         for tree in wrong:
             self.fails_at(InvalidTree, -1, expression_text, BOOK, KEY, tree)
             self.fails_at(InvalidTree, -1, expression_text, BOOK, KEY, of(3, tree))

@@ -72,6 +72,7 @@ class NeedProgramTest(Fails, unittest.TestCase):
                           (("of", True, (0,)), False), (("of", -1, (0,)), False), (("of", 1, (2,)), False),
                           (("of", 1, (-1,)), False), (("of", 1, (False,)), False), (("of", 1, [0]), False),
                           (("of", 1, 0), False), (("of", 1), False), (("of", 1, (0,), 0), False),
+                          (("off", 1, (0,)), False), (("told", 1, (0,)), False), (("of", 1), False),
                           ((None, 1), False), (((), 1), False)):
             self.row(row, fits)
 
@@ -125,7 +126,9 @@ class NeedProgramTest(Fails, unittest.TestCase):
                           (("loop", 1, [0], (), (0,)), False), (("loop", 1, (0,), (), [0]), False),
                           (("loop", 1, (0,), [], (0,)), False), (("loop", 1, (0,), None, (0,)), False),
                           (("loop", 1, (True,), (), (0,)), False), (("loop", 1, (0,), (), (True,)), False),
-                          (("loop", 1, (0,), ()), False), (("loop", 1, 0, (), 0), False)):
+                          (("loop", 1, (0,), ()), False), (("loop", 1, 0, (), 0), False),
+                          (("lop", 1, (0,), (), (0,)), False), ((None, 1, (0,), (), (0,)), False),
+                          (("of", None, (), (), ()), False), (("told", 1, (0,), (), (0,)), False)):
             self.row(row, fits)
         # Heads are seen behind a loop, its rows are not.
         ahead = (("loop", None, (0,), (told,), (3,)),)

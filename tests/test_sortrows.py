@@ -154,6 +154,8 @@ class SortRowsTest(Fails, unittest.TestCase):
         self.assertEqual(sorted_paper(((2, 3), ()))[0], "rows")
         self.assertEqual(fewest_joint(((2, 3), ())), ((0, 0), (1, 1)))
         self.assertEqual(fewest_joint(((4,), (((0,), 0, (1, 2, 3, 0)),))), ((0,), (1,)))
+        # The first run need not be among them.
+        self.assertEqual(fewest_joint(((3,), (((0,), 0, (1, 1, 2)), ((0,), 0, (2, 1, 2))))), ((1,), (2,)))
 
     def test_more_values(self):
         dice = random.Random(61)

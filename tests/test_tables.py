@@ -139,6 +139,7 @@ class TablesTest(Fails, unittest.TestCase):
         self.fails_at(InvalidTable, 1, joined_table, 2, AND, [NOT, (1, (1, True))])
         self.fails_at(InvalidTable, 0, joined_table, 2, AND, [(7, (0,) * 128), NOT])
         self.fails_at(InvalidTable, 0, joined_table, 2, AND, [(-1, ()), NOT])
+        self.fails_at(InvalidTable, 0, joined_table, 2, AND, [(-1, (0,)), (-1, (0,))])
         self.fails_at(InvalidOperation, -1, joined_table, 2, TURN, None)
 
     def test_lists_for_tuples(self):
