@@ -234,9 +234,9 @@ class Weave:
                 reads.append(self.put_told(part))
         return self.put_line(("of", table.number, tuple(reads)))
 
-    def put_grown(self, growth, starts, goal):
-        """Puts the rows that lead from the starts' registers to a row that has grown; tells its register."""
-        needed = {goal: True}
+    def put_goals(self, growth, starts, goals):
+        """Puts the rows that lead from the starts' registers to rows that have grown; tells the registers of these."""
+        needed = {goal: True for goal in goals}
         for key in reversed(growth.order):
             if key in needed and key not in starts:
                 table, rows = growth.reasons[key]
@@ -248,4 +248,38 @@ class Weave:
                 table, rows = growth.reasons[key]
                 reads = [numbers[(sort, row)] for sort, row in zip(table.sorts, rows)]
                 numbers[key] = self.put_table(table, reads)
-        return numbers[goal]
+        return [numbers[goal] for goal in goals]
+
+    def put_grown(self, growth, starts, goal):
+        """Puts the rows that lead from the starts' registers to a row that has grown; tells its register."""
+        return self.put_goals(growth, starts, [goal])[0]
+
+    def put_lie(self, growth, starts, lie):
+        """Puts a row with an answer that no run shows, and those that lead to what it reads; tells its register."""
+        table, rows, _ = lie
+        goals = [(sort, row) for sort, row in zip(table.sorts, rows)]
+        return self.put_table(table, self.put_goals(growth, starts, goals))
+
+
+def unshown(answers, sizes, rows):
+    """An answer to one value of each row that is no answer to the rows value by value; None if there is none."""
+    shown = answered(answers, sizes, rows)
+    for row in all_rows(rows):
+        answer = answers[spot_in(sizes, row)]
+        if answer not in shown:
+            return answer
+    return None
+
+
+def found_lie(growth):
+    """A table, rows that have grown, and an answer that is not shown; None if there is none.
+
+    What has one value throughout is left out: to read it is to be held at it.
+    """
+    grown = [[row for row in rows if not is_alike(row)] for rows in growth.found]
+    for table in growth.tables:
+        for rows in all_rows([grown[sort] for sort in table.sorts]):
+            answer = unshown(table.answers, table.sizes, rows)
+            if answer is not None:
+                return (table, rows, answer)
+    return None

@@ -1,7 +1,7 @@
-"""Names and signs of operations, and trees of them as texts with the fewest brackets."""
+"""Words of texts, names and signs of operations, and trees of them as texts with the fewest brackets."""
 
 from foldsall.common import is_below, is_between, is_row_of, is_tuple_of
-from foldsall.errors import InvalidKey, InvalidTree
+from foldsall.errors import InvalidKey, InvalidText, InvalidTree
 from foldsall.tables import need_book
 
 KEPT_WORDS = ("in", "if", "either", "else", "end", "give", "loop", "again", "out", "size", "left", "right")
@@ -13,6 +13,83 @@ SIGNS = "+-*/&|^<>!@~$"
 def are_figures(text):
     """Whether a string has one figure or more, and nothing else."""
     return len(text) > 0 and all([sign in FIGURES for sign in text])
+
+
+def word_end(text, at):
+    """Where the word that begins here ends."""
+    sign = text[at]
+    end = at + 1
+    if sign not in LETTERS and sign not in FIGURES:
+        return end
+    while end < len(text) and (text[end] in FIGURES or (sign in LETTERS and text[end] in LETTERS)):
+        end += 1
+    return end
+
+
+def text_words(text):
+    """The words of a text, each with where it begins, and behind them an empty one for the end."""
+    words = []
+    at = 0
+    while at < len(text):
+        end = word_end(text, at)
+        if text[at] != " ":
+            words.append((text[at:end], at))
+        at = end
+    words.append(("", len(text)))
+    return words
+
+
+def is_number_word(word):
+    """Whether a word is a number without a needless 0, of up to nine figures."""
+    return are_figures(word) and len(word) <= 9 and (word == "0" or word[0] != "0")
+
+
+class Words:
+    """The words of any value as a text, read one behind another."""
+
+    def __init__(self, text):
+        if not isinstance(text, str):
+            raise InvalidText(-1)
+        self.words = text_words(text)
+        self.at = 0
+
+    def now(self):
+        """The word that is read next; an empty one at the end."""
+        return self.words[self.at][0]
+
+    def place(self):
+        """Where the word that is read next begins."""
+        return self.words[self.at][1]
+
+    def take(self):
+        """Reads a word."""
+        self.at += 1
+        return self.words[self.at - 1][0]
+
+    def does_take(self, word):
+        """Reads a word if it is this one; tells whether it is."""
+        if self.now() != word:
+            return False
+        self.at += 1
+        return True
+
+    def need(self, word):
+        """Reads this word."""
+        if self.now() != word:
+            raise InvalidText(self.place())
+        self.at += 1
+
+    def need_end(self):
+        """Raises if a word is left."""
+        if self.now() != "":
+            raise InvalidText(self.place())
+
+    def take_number(self, least, most):
+        """Reads a number from least to most, None for any."""
+        word = self.now()
+        if not is_number_word(word) or int(word) < least or (most is not None and int(word) > most):
+            raise InvalidText(self.place())
+        return int(self.take())
 
 
 def is_name(value):

@@ -45,9 +45,8 @@ def merging_story(size, growth):
     return story_of(size, weave, weave.put_grown(growth, {growth.order[0]: 0}, growth.alike))
 
 
-def lot_paper(book, lot, values):
-    """Some pairs that the operations of a lot keep, or for each two values a story that brings them together."""
-    book, lot, values = need_lots(book, lot, values)
+def paper_of(book, lot, values):
+    """The paper of a book, a lot and values that are right."""
     tables = held_tables(book[0], book[1], lot, values)
     rows = []
     for pair in lots_below(book[0], 2):
@@ -56,6 +55,12 @@ def lot_paper(book, lot, values):
             return ("let", tuple(sorted(growth.found[0])))
         rows.append((*pair, merging_story(book[0], growth)))
     return ("not", tuple(rows))
+
+
+def lot_paper(book, lot, values):
+    """Some pairs that the operations of a lot keep, or for each two values a story that brings them together."""
+    book, lot, values = need_lots(book, lot, values)
+    return paper_of(book, lot, values)
 
 
 def is_lot_story(book, lot, values, program):
@@ -75,9 +80,8 @@ def brings_together(book, lot, values, row, pair):
     return ends[pair[0]] == ends[pair[1]]
 
 
-def lot_holds(book, lot, values, value):
-    """Whether any value is pairs that a lot keeps, or a story for each two values."""
-    book, lot, values = need_lots(book, lot, values)
+def holds_of(book, lot, values, value):
+    """Whether any value is a paper of a book, a lot and values that are right."""
     if not is_tuple_of(2, value):
         return False
     if value[0] == "let":
@@ -87,6 +91,12 @@ def lot_holds(book, lot, values, value):
     if value[0] != "not" or not is_tuple_of(len(pairs), value[1]):
         return False
     return all([brings_together(book, lot, values, row, pair) for row, pair in zip(value[1], pairs)])
+
+
+def lot_holds(book, lot, values, value):
+    """Whether any value is pairs that a lot keeps, or a story for each two values."""
+    book, lot, values = need_lots(book, lot, values)
+    return holds_of(book, lot, values, value)
 
 
 def does_merge(book, lot, pair):

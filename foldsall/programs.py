@@ -166,6 +166,21 @@ def register_sources(book, program):
     return all_sources(need_program(book, program))
 
 
+def all_reads(rows):
+    """All registers that rows read, and rows within them; as often as they are read."""
+    reads = []
+    for row in rows:
+        if row[0] == "of":
+            reads.extend(row[2])
+        elif row[0] == "fork":
+            reads.extend([] if row[1] is None else [row[1][0]])
+            reads.extend(all_reads(row[2]) + all_reads(row[3]))
+            reads.extend([number for pair in row[4] for number in pair])
+        elif row[0] == "loop":
+            reads.extend([*row[2], *all_reads(row[3]), *row[4]])
+    return reads
+
+
 def plain_values(book, program, values):
     """The values of all registers of a straight program that is right, in the run of these values."""
     size, operations = book

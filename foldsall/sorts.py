@@ -146,18 +146,10 @@ def sorted_folds(book, program):
     return fold_sorted(book, program)
 
 
-def sorted_kept(book, program, lists):
-    """The kept sets of all registers, if the inputs have these lists."""
-    need_sorted(book)
-    need_sorted_program(book, program)
-    inputs, rows = program
-    if not is_row_of(len(inputs), lists):
-        raise InvalidList(-1)
-    for at, values in enumerate(lists):
-        if not is_value_list(book[0][inputs[at]], values):
-            raise InvalidList(at)
+def kept_sorted(book, program, lists):
+    """The kept sets of all registers of a program that is right, if the inputs have these lists."""
     kept = [tuple(values) for values in lists]
-    for word, number, told in rows:
+    for word, number, told in program[1]:
         if word == "told":
             kept.append((told,))
         else:
@@ -166,6 +158,19 @@ def sorted_kept(book, program, lists):
             rows_read = all_rows([kept[read] for read in told])
             kept.append(tuple(sorted({answers[spot_in(sizes, row)] for row in rows_read})))
     return tuple(kept)
+
+
+def sorted_kept(book, program, lists):
+    """The kept sets of all registers, if the inputs have these lists."""
+    need_sorted(book)
+    need_sorted_program(book, program)
+    inputs = program[0]
+    if not is_row_of(len(inputs), lists):
+        raise InvalidList(-1)
+    for at, values in enumerate(lists):
+        if not is_value_list(book[0][inputs[at]], values):
+            raise InvalidList(at)
+    return kept_sorted(book, program, lists)
 
 
 def hangs_on(book, number, place):

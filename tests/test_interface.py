@@ -30,6 +30,21 @@ INTERFACE = {
     "folding": "kept_sets(book,program,k=None) folded_values(book,program) quick_sets(book,program,k=None) "
                "kept_paper(book,program,k=None) kept_holds(book,program,k,value)",
     "lots": "lot_paper(book,lot,values) lot_holds(book,lot,values,value) let_lots(book) pair_lots(book,one,other)",
+    "passes": "cut_program(book,program) whole_program(book,cut) live_places(book,operation,held) told_lines(book,cut) "
+              "passed(book,cut,words) plain_form(book,cut) missed_alike(book)",
+    "reading": "read_expression(book,key,text) read_program(book,key,text) read_book(text)",
+    "runs": "run_values(book,program,values,choices) run_ends(book,program,values,choices) "
+            "straight_run(book,program,values,choices) all_runs(book,program,turns) runs_many(book,program) "
+            "shown_values(book,program) shown_run(book,program,number,value)",
+    "texts": "program_text(book,key,program) named_registers(book,program) book_text(book,key)",
+    "turnings": "turned_paper(book) turned_holds(book,value) sort_sets_paper(book) sort_sets_hold(book,value)",
+    "always": "always_paper(size,operation) always_holds(size,operation,value)",
+    "bench": "bench_behind(book,inputs,one,other,deeds)",
+}
+CLASSES = {
+    ("bench", "Bench"): "__init__(self,book,inputs,one,other) put_row(self,row) set_row(self,spot,row) "
+                        "take_row(self,spot) set_list(self,number,values) set_ends(self,registers) program_now(self) "
+                        "folded_now(self) kept_now(self) runs_now(self)",
 }
 
 
@@ -43,6 +58,18 @@ class InterfaceTest(unittest.TestCase):
                 word, parameters = head.rstrip(")").split("(")
                 self.assertIn(word, defined)
                 signature = str(inspect.signature(getattr(module, word)))
+                self.assertEqual(signature.replace(", ", ","), "(" + parameters + ")")
+
+    def test_classes(self):
+        for (name, word), told in CLASSES.items():
+            module = importlib.import_module("foldsall." + name)
+            with open(module.__file__, encoding="utf-8") as source:
+                bodies = {node.name: node.body for node in ast.parse(source.read()).body if isinstance(node, ast.ClassDef)}
+            defined = {node.name for node in bodies[word] if isinstance(node, ast.FunctionDef)}
+            for head in told.split(" "):
+                method, parameters = head.rstrip(")").split("(")
+                self.assertIn(method, defined)
+                signature = str(inspect.signature(getattr(getattr(module, word), method)))
                 self.assertEqual(signature.replace(", ", ","), "(" + parameters + ")")
 
     def test_one_package(self):

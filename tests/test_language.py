@@ -81,7 +81,7 @@ class LanguageTest(unittest.TestCase):
             lines = text.split("\n")
             self.assertLessEqual(len(lines) - 1, 399)
             for line in lines:
-                self.assertLessEqual(len(line), 120, line)
+                self.assertLessEqual(len(line), 120, (name, line))
                 self.assertTrue(all(" " <= sign <= "~" for sign in line), line)
             for node in ast.walk(tree):
                 if isinstance(node, ast.FunctionDef):
@@ -236,7 +236,7 @@ class LanguageTest(unittest.TestCase):
             for node in ast.walk(tree):
                 if isinstance(node, (ast.Set, ast.SetComp)) or called(node) == "set":
                     above = node.parent
-                    self.assertTrue(called(above) in ("sorted", "len") or isinstance(above, ast.Compare), node.lineno)
+                    self.assertTrue(called(above) in ("sorted", "len") or isinstance(above, ast.Compare), (name, node.lineno))
                 if called(node) in ("map", "iter", "next", "frozenset", "getattr", "setattr", "hasattr", "pow"):
                     self.fail(node.lineno)
                 view = (isinstance(node, ast.Call) and isinstance(node.func, ast.Attribute)
@@ -246,7 +246,7 @@ class LanguageTest(unittest.TestCase):
                     inside = isinstance(above, (ast.For, ast.comprehension)) and above.iter is node
                     kept = called(node) == "range" and isinstance(above, ast.Assign)
                     turned = called(node) == "range" and called(above) in ("reversed", "len")
-                    self.assertTrue(inside or kept or turned or called(above) in AT_ONCE, node.lineno)
+                    self.assertTrue(inside or kept or turned or called(above) in AT_ONCE, (name, node.lineno))
 
     def test_strings(self):
         for name, text, tree in self.each():
@@ -277,11 +277,11 @@ class LanguageTest(unittest.TestCase):
                     if isinstance(node, ast.Name) and isinstance(node.ctx, ast.Store):
                         above = self.comprehensions_above(node, function)
                         if len(above) > 1:
-                            self.assertNotIn(node.id, outer, function.name)
+                            self.assertNotIn(node.id, outer, (name, function.name))
                             for other in above[1:]:
                                 own = {part.id for one in other.generators for part in ast.walk(one.target)
                                        if isinstance(part, ast.Name)}
-                                self.assertNotIn(node.id, own, function.name)
+                                self.assertNotIn(node.id, own, (name, function.name))
 
     def comprehensions_above(self, node, function):
         found = []
