@@ -114,15 +114,18 @@ def is_alike(row):
     return row.count(row[0]) == len(row)
 
 
-def held_many(held):
-    """At how many places something is held."""
-    return len(held) - held.count(None)
+def left_many(held):
+    """At how many places nothing is held."""
+    return held.count(None)
 
 
 def held_choices(worlds):
-    """All ways to hold some places at values of their own, one place at least left; the fewest held first."""
+    """All ways to hold some places at values of their own, one place at least left; the most held first.
+
+    So what has one value throughout is rather held than read: no row that grows is made of it but where it must.
+    """
     rows = all_rows([[None, *values] for values in worlds])
-    return sorted([row for row in rows if None in row], key=held_many)
+    return sorted([row for row in rows if None in row], key=left_many)
 
 
 def held_answers(answers, sizes, held):

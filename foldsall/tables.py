@@ -1,7 +1,7 @@
 """Sizes, operations and books told by tables; what an operation hangs on."""
 
-from foldsall.common import (all_rows, answered, hangs_at, held_answers, held_many, is_alike, is_below, is_between,
-                             is_row_of, is_sequence, power)
+from foldsall.common import (all_rows, answered, hangs_at, held_answers, is_alike, is_below, is_between, is_row_of,
+                             is_sequence, left_many, power)
 from foldsall.errors import InvalidBook, InvalidOperation, InvalidSize, InvalidTable, InvalidValues
 
 
@@ -61,7 +61,7 @@ def held_table(size, operation, held):
     """How many places are left, and the answers for all rows of values at these, the others as held."""
     places, answers = need_operation(size, operation)
     need_held(size, places, held)
-    return (places - held_many(held), held_answers(answers, [size] * places, held))
+    return (left_many(held), held_answers(answers, [size] * places, held))
 
 
 def settled_value(size, operation, held):

@@ -40,6 +40,18 @@ INTERFACE = {
     "turnings": "turned_paper(book) turned_holds(book,value) sort_sets_paper(book) sort_sets_hold(book,value)",
     "always": "always_paper(size,operation) always_holds(size,operation,value)",
     "bench": "bench_behind(book,inputs,one,other,deeds)",
+    "boxes": "pair_rows(book,one,other) pair_paper(book,one,other) pair_holds(book,one,other,value) right_pairs(book)",
+    "joins": "looks_at(book,operation) let_part(book,word) joins_paper(book) finds_paper(book) joins_hold(book,value) "
+             "finds_hold(book,value)",
+    "keeping": "reading_tree(book,program,number) double_inputs(book,program,number) opened_program(book,program,k) "
+               "told_program(book,program)",
+    "ladder": "merging_program(book,one,other) story_program(book) turn_book(values) fewest_lines(book,most) "
+              "word_paper(book) word_holds(book,value)",
+    "mends": "fewest_strikes(book,prices) strikes_hold(book,prices,value) let_constants(book)",
+    "missed": "split_cases(book,program,lot) split_sets(book,program,lot) missed_values(book,program,lot) "
+              "grounded_row(book,program,lot,number,value) is_grounded(book,program,lot,number,value,row)",
+    "severals": "several_paper(book,many) several_holds(book,many,value) right_paper(book,many) "
+                "right_holds(book,many,value) wrong_sizes(book) sizes_book(values,sizes)",
 }
 CLASSES = {
     ("bench", "Bench"): "__init__(self,book,inputs,one,other) put_row(self,row) set_row(self,spot,row) "
