@@ -25,7 +25,7 @@ def need_inputs(book, inputs):
     """Lists of inputs, in tuples."""
     if not is_sequence(inputs) or not all([is_value_list(book[0], values) for values in inputs]):
         raise InvalidProgram(0)
-    return [tuple(values) for values in inputs]
+    return tuple([tuple(values) for values in inputs])
 
 
 def reads_of(row):
@@ -38,6 +38,11 @@ def shifted(row, spot):
     if row[0] == "told":
         return row
     return ("of", row[1], tuple([number - 1 if number > spot else number for number in row[2]]))
+
+
+def replaced(things, at, thing):
+    """Things with another one at a place."""
+    return (*things[:at], thing, *things[at + 1:])
 
 
 class Bench:
@@ -54,9 +59,9 @@ class Bench:
                 raise InvalidIndex(at)
         self.one = one
         self.other = other
-        self.rows = []
+        self.rows = ()
         self.ends = ()
-        self.known = [self.reckoned_list(values) for values in self.lists]
+        self.known = tuple([self.reckoned_list(values) for values in self.lists])
         self.looked = ()
 
     def reckoned_list(self, values):
@@ -65,7 +70,7 @@ class Bench:
             return (values[0], values, (values[0], values[0]))
         return (None, values, (self.one, self.other))
 
-    def reckoned(self, number):
+    def reckoned(self, known, number):
         """What is known of a register, by what is known of those that it reads."""
         if number < len(self.lists):
             return self.reckoned_list(self.lists[number])
@@ -74,7 +79,7 @@ class Bench:
             return (row[1], (row[1],), (row[1], row[1]))
         answers = self.book[1][row[1]][1]
         sizes = [self.book[0]] * len(row[2])
-        read = [self.known[at] for at in row[2]]
+        read = [known[at] for at in row[2]]
         made = held_answers(answers, sizes, [folded for folded, _, _ in read])
         kept = {answers[spot_in(sizes, values)]: True for values in all_rows([lot for _, lot, _ in read])}
         runs = [answers[spot_in(sizes, [values[run] for _, _, values in read])] for run in range(2)]
@@ -82,16 +87,18 @@ class Bench:
 
     def reckon(self, number):
         """Reckons a register anew, and in order each one that reads one of which what is known has turned."""
+        known = list(self.known)
         turned = {}
         looked = []
-        for at in range(number, len(self.known)):
+        for at in range(number, len(known)):
             reads = () if at < len(self.lists) else reads_of(self.rows[at - len(self.lists)])
             if at == number or any([read in turned for read in reads]):
                 looked.append(at)
-                now = self.reckoned(at)
-                if now != self.known[at]:
+                now = self.reckoned(known, at)
+                if now != known[at]:
                     turned[at] = True
-                    self.known[at] = now
+                    known[at] = now
+        self.known = tuple(known)
         self.looked = tuple(looked)
 
     def need_spot(self, spot):
@@ -103,8 +110,8 @@ class Bench:
         """Puts a row behind all, and tells its register."""
         if not is_plain_row(self.book, len(self.known), row):
             raise InvalidProgram(1)
-        self.rows.append(row)
-        self.known.append(None)
+        self.rows = (*self.rows, row)
+        self.known = (*self.known, None)
         self.reckon(len(self.known) - 1)
         return len(self.known) - 1
 
@@ -113,7 +120,7 @@ class Bench:
         self.need_spot(spot)
         if not is_plain_row(self.book, spot, row):
             raise InvalidProgram(1)
-        self.rows[spot - len(self.lists)] = row
+        self.rows = replaced(self.rows, spot - len(self.lists), row)
         self.reckon(spot)
 
     def take_row(self, spot):
@@ -121,9 +128,10 @@ class Bench:
         self.need_spot(spot)
         if spot in self.ends or any([spot in reads_of(row) for row in self.rows]):
             raise Refused(spot)
-        del self.rows[spot - len(self.lists)]
-        del self.known[spot]
-        self.rows = [shifted(row, spot) for row in self.rows]
+        at = spot - len(self.lists)
+        left = (*self.rows[:at], *self.rows[at + 1:])
+        self.rows = tuple([shifted(row, spot) for row in left])
+        self.known = (*self.known[:spot], *self.known[spot + 1:])
         self.ends = tuple([end - 1 if end > spot else end for end in self.ends])
         self.looked = ()
 
@@ -133,7 +141,7 @@ class Bench:
             raise InvalidIndex(-1)
         if not is_value_list(self.book[0], values):
             raise InvalidProgram(0)
-        self.lists[number] = tuple(values)
+        self.lists = replaced(self.lists, number, tuple(values))
         self.reckon(number)
 
     def set_ends(self, registers):
@@ -145,7 +153,7 @@ class Bench:
 
     def program_now(self):
         """The program as it is now."""
-        return (tuple(self.lists), tuple(self.rows), self.ends)
+        return (self.lists, self.rows, self.ends)
 
     def folded_now(self):
         """For each register its folded value, or None."""

@@ -3,12 +3,13 @@
 import itertools
 import random
 
+from foldsall.bench import Bench
 from foldsall.errors import InvalidText
 
 # Any values: whatever is asked for, most of these are wrong.
 ANYTHING = (None, True, False, -1, 0, 1, 9, 10 ** 30, "", "told", "size", (), [], (None,), [True], ((),), ("x", 1),
             (1, 2, 3), [2, [[1, [0, True]]]], (2, ((1, (0, 2)),)), ((((((((((((0,),),),),),),),),),),),),
-            InvalidText(3))
+            InvalidText(3), Bench((2, ()), (), 0, 1))
 
 AND, OR, XOR, SAME = (2, (0, 0, 0, 1)), (2, (0, 1, 1, 1)), (2, (0, 1, 1, 0)), (2, (1, 0, 0, 1))
 NOT, KEEP = (1, (1, 0)), (1, (0, 1))

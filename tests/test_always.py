@@ -93,10 +93,12 @@ class AlwaysTest(Fails, unittest.TestCase):
         size, operation = 2, AND
         _, operations, pairs, rows = always_paper(size, operation)
         for other in (operations, operations * 2, operations * 3, ((1, (1, 1)),) + operations, (KEEP,) + operations):
-            moved = tuple((one, two, (program[0], tuple(
-                (row[0], row[1] + len(other) - 1, row[2]) if row[0] == "of" else row for row in program[1]), program[2]))
-                for one, two, program in rows)
-            self.assertIs(always_holds(size, operation, ("not", other, pairs, moved)), True)
+            self.assertIs(always_holds(size, operation, ("not", other, pairs, self.moved(rows, len(other) - 1))), True)
+        # One to three of them, though others would tell the same.
+        self.assertIs(always_holds(size, operation, ("not", operations * 4, pairs, self.moved(rows, 3))), False)
+        merging = ((0, 1, (((0, 1),), (("of", 0, (0, 0)),), (1,))),)
+        self.assertIs(always_holds(2, XOR, ("not", (KEEP,), pairs, self.moved(merging, 1))), True)
+        self.assertIs(always_holds(2, XOR, ("not", (), pairs, merging)), False)
         self.assertIs(always_holds(size, operation, ("not", (), pairs, rows)), False)
         self.assertIs(always_holds(size, operation, ("not", operations * 4, pairs, rows)), False)
         self.assertIs(always_holds(size, operation, ("not", operations, ((1, 0),), rows)), False)
@@ -104,6 +106,12 @@ class AlwaysTest(Fails, unittest.TestCase):
         self.assertIs(always_holds(size, operation, ("not", operations, pairs, ())), False)
         # Operations that are not let themselves.
         self.assertIs(always_holds(size, operation, ("not", (XOR,), pairs, rows)), False)
+
+    def moved(self, rows, step):
+        """Rows of stories, all operations so many numbers on."""
+        return tuple((one, two, (program[0], tuple(
+            (row[0], row[1] + step, row[2]) if row[0] == "of" else row for row in program[1]), program[2]))
+            for one, two, program in rows)
 
     def test_constants_and_places_alone(self):
         for operation, word, at in (((1, (1, 1)), "value", 1), (KEEP, "place", 0), ((2, (0, 1, 0, 1)), "place", 1)):

@@ -115,7 +115,7 @@ class BenchTest(Fails, unittest.TestCase):
                     continue
                 deeds.append(deed)
                 self.assertEqual(told, len(before[1]) if deed[0] == "put" else None)
-                self.assertFalse(has_lists(state(bench)))
+                self.assertFalse(has_lists(state(bench)) or has_lists(tuple(vars(bench).values())))
                 self.assertEqual(state(bench)[:4], reckoned(bench, book, one, other))
                 self.assertEqual(bench.looked, self.looked(before, state(bench), deed))
             for behind in (bench_behind(book, lists, one, other, deeds),
@@ -230,7 +230,8 @@ class BenchTest(Fails, unittest.TestCase):
         told = state(bench)
         wrong = list(ANYTHING) + [["told", 1], ("told", 2), ("told", True), ("told", 1, 1), ("of", 0, (0,)), ("of", 2, (0,)),
                                   ("of", 0, [0, 1]), ("of", 0, (0, 4)), ("of", 1, (-1,)), ("of", True, (0,)), ("of", 1, (True,)),
-                                  ("fork", None, (), (), ()), ("loop", None, (0,), (), (0,)), ("of", 1, (None,)), ("of", 1)]
+                                  ("fork", None, (), (), ()), ("loop", None, (0,), (), (0,)), ("of", 1, (None,)), ("of", 1),
+                                  ("off", 1, (0,)), ("told", 1, (0,)), ("fork", 1, (0,))]
         for row in wrong:
             self.fails_at(InvalidProgram, 1, bench.put_row, row)
             self.fails_at(InvalidProgram, 1, bench.set_row, 2, row)

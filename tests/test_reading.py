@@ -318,6 +318,7 @@ class ReadProgramTest(Fails, unittest.TestCase):
         for text, at in (
                 ("", 0), ("\nout", 0), ("out\n", 3), ("in", 2), ("in a", 4), ("in a out", 5), ("in a\n", 5), ("in a : out", 7),
                 ("in a :\nout", 6), ("in a : 1 0\nout", 9), ("in a : 0 0\nout", 9), ("in a : 2\nout", 7),
+                ("in a : 0 2\nout", 9), ("in a : 1 2\nout", 9),
                 ("in a : 0 1 1", 11), ("in a : 0 1", 10), ("a\nout", 1), ("a = \nout", 4), ("a = 1 out", 6), ("a = 1,", 5),
                 ("a = 1\nin b", 6), ("if 1\nelse", 4), ("if 1 = 2\n", 7), ("if 1 = a\n", 7), ("if = 1", 3), ("if 1 = 1 = 1", 9),
                 ("either 1", 7), ("either\nend", 7), ("either\nout", 7), ("either\nagain", 7), ("either\ngive\n", 11),

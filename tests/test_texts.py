@@ -122,6 +122,7 @@ class ProgramTextTest(Fails, unittest.TestCase):
                 ((("told", 1), ("of", 0, (1, 1))), (2,), "r1 = 1\nout r1 & r1", (1,)),
                 ((("told", 1), ("fork", (1, 1), (), (), ()), ("told", 0)), (2, 0),
                  "if 1 = 1\nelse\nend\nout 0, r0", ()),
+                ((("of", 1, (0,)), ("fork", (1, 0), (), (), ())), (), "if not(r0) = 0\nelse\nend\nout", ()),
                 ((("told", 1), ("fork", (1, 1), (), (), ((0, 1),))), (2,),
                  "r1 = 1\nif r1 = 1\n give r0\nelse\n give r1\nend r2\nout r2", (1,)),
                 ((("told", 1), ("fork", None, (("told", 0),), (("told", 1),), ((2, 3),))), (4, 1),

@@ -128,6 +128,8 @@ class TurnedTest(Fails, unittest.TestCase):
                         ((), (("told", 0, 1), ("of", 0, (0, 0)))), ((0,), (("told", 0, 0), ("of", 0, (0, 1)))),
                         ((0,), (("told", 0, 1), ("of", 0, (0, 1)), ("told", 0, 1))), ((1,), ()), ((), ())):
             self.assertIs(turned_holds(XOR, ("ring", program)), False)
+        for row in ((2,), (-1,), (None,), (True,), (), (0, 0)):
+            self.assertIs(turned_holds(XOR, ("turns", row)), False)
         # The end is of the other sort.
         self.assertIs(turned_holds(FALLS, ("ring", ((0,), (("of", 0, (0,)),)))), False)
         self.assertIs(turned_holds(RING, ("ring", ((1,), (("of", 1, (0,)), ("of", 0, (1,)))))), True)
@@ -184,6 +186,10 @@ class SortSetsTest(Fails, unittest.TestCase):
         self.assertEqual(sort_sets_paper(((2,), ())), ("exact",))
         self.assertEqual(self.look(XOR)[0], "lies")
         self.assertEqual(self.look(MIXED)[0], "lies")
+        # What lies is made behind a pair of alike values.
+        for book in (((2, 3), (((0, 1), 0, (0, 0, 1, 1, 0, 1)), ((0,), 0, (1, 0)))),
+                     ((2, 3), (((0,), 1, (1, 2)), ((1,), 1, (0, 2, 1)), ((1, 1), 0, (0, 1, 0, 0, 1, 1, 1, 1, 1))))):
+            self.assertEqual(self.look(book)[0], "lies")
 
     def test_small_books(self):
         for book in itertools.chain(small_books((2,), 1), small_books((2,), 2), small_books((3,), 1), small_books((2, 2), 2),
@@ -216,6 +222,8 @@ class SortSetsTest(Fails, unittest.TestCase):
         self.assertEqual(need_sorted(XOR), XOR)
         self.assertIs(sort_sets_hold(XOR, ("lies", (0, 1), program, 0)), True)
         self.assertIs(sort_sets_hold(XOR, ("lies", (0, 1), ((0,), (("of", 0, (0, 0)),)), 1)), True)
+        self.assertIs(sort_sets_hold(XOR, ("lies", (0, 1), ((0,), (("of", 0, (0, 0)),)), True)), False)
+        self.assertIs(sort_sets_hold(XOR, ("exact", (0, 1), ((0,), (("of", 0, (0, 0)),)), 1)), False)
         for values, other, value in (((0, 1), program, 1), ((0,), program, 0), ((1, 0), program, 0), ([0, 1], program, 0),
                                      ((), program, 0), ((0, 2), program, 0), ((0, 1), program, True), ((0, 1), program, 2),
                                      ((0, 1), ((0, 0), program[1]), 0), ((0, 1), ((), (("told", 0, 1),)), 0),
