@@ -4,10 +4,10 @@ import itertools
 import random
 import unittest
 
-from foldsall.arrows import sure_pairs
+from foldsall.arrows import book_tables, sure_pairs
 from foldsall.court import court_paper
 from foldsall.errors import InvalidBook, InvalidIndex, InvalidSize, Refused
-from foldsall.ladder import fewest_lines, merging_program, story_program, turn_book, word_holds, word_paper
+from foldsall.ladder import Search, fewest_lines, merging_program, story_program, turn_book, word_holds, word_paper
 from tests.helpers import (AND, ANYTHING, KEEP, LEAST, MOST, NOT, OR, TURN, XOR, Fails, all_operations, answer, changed,
                            has_lists, in_lists, no_rows_of, no_values, rows_of)
 from tests.test_arrows import held_operations, small_books
@@ -204,6 +204,41 @@ class LinesTest(Fails, unittest.TestCase):
         # Places on which nothing hangs are told anything.
         book = (3, ((2, tuple((1, 2, 0)[row[1]] for row in rows_of(3, 2))), (3, tuple((0, 1, 0)[row[0]] for row in rows_of(3, 3)))))
         self.assertEqual(fewest_lines(book, 9), 4)
+
+    def test_searches_through_lots_of_rows(self):
+        """Several places bring values together soon; so longer searches are looked at with one place."""
+        dice = random.Random(5)
+        books = [turn_book(3)] + [book for book in one_place_books(4, dice, 500) if 3 < (shortest(book) or 0) < 7]
+        books += [book for book in one_place_books(3, dice, 100) if 1 < (shortest(book) or 0) < 7]
+        self.assertGreater(len(books), 12)
+        for book in books:
+            search, many = Search(book[0], book_tables(book)), 1
+            while not search.is_done:
+                search.go_on()
+                many += 1
+            self.assertEqual(many, shortest(book))
+
+    def test_lots_of_a_search(self):
+        """Each lot has the first row and one more a line, each made of those ahead; and all that one more line makes."""
+        sizes = []
+        for book in ((3, (LEAST,)), (3, (MOST, LEAST)), (2, (AND, OR)), (3, (LEAST, (1, (0, 0, 1)))),
+                     (4, ((2, tuple(min(row) for row in rows_of(4, 2))),)), (3, ((2, (0, 1, 2, 1, 1, 2, 2, 2, 2)),))):
+            tables = list(held_operations(book))
+            search, many = Search(book[0], book_tables(book)), 1
+            while search.lots and many < 6 and not search.is_done:
+                for lot, bits in search.lots.items():
+                    rows = [row for at, row in enumerate(search.rows) if lot >> at & 1]
+                    self.assertEqual((len(rows), bin(lot).count("1")), (many, many))
+                    self.assertIn(tuple(range(book[0])), rows)
+                    made = {tuple(table[values] for values in zip(*lot_of)) for places, table in tables
+                            for lot_of in itertools.product(rows, repeat=places)}
+                    told = {row for at, row in enumerate(search.rows) if bits >> at & 1}
+                    self.assertEqual(told, made)
+                    self.assertLessEqual(set(rows[1:]), made)
+                    sizes.append(len(rows))
+                search.go_on()
+                many += 1
+        self.assertIn(3, sizes)
 
     def test_most_lines(self):
         self.assertIsNone(fewest_lines((2, (XOR,)), 0))

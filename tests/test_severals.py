@@ -189,6 +189,19 @@ class PapersTest(Fails, unittest.TestCase):
                     seen += right(book, many, paper)
         self.assertGreater(seen, 20)
 
+    def test_kept_sets_of_no_sight(self):
+        """What is kept is a lot of one to many values, or all values; nothing else, even where nothing is led to it."""
+        for many, size in ((1, 3), (2, 3), (1, 4), (2, 4), (3, 4)):
+            book, lot = (size, ()), tuple(range(many + 1))
+            for length in range(size + 1):
+                kept = tuple(range(length))
+                sights = tuple(sorted(begin(book, lot) | {(kept, lot)}))
+                right = 1 <= length <= many or length == size
+                self.assertIs(several_holds(book, many, ("apart", lot, sights)), right)
+                whole = tuple(range(size))
+                sights = tuple(sorted(begin(book, whole) | {(kept, tuple(value % max(1, length) for value in whole))}))
+                self.assertIs(right_holds(book, many, ("right", whole, sights)), right)
+
     def test_any_stories(self):
         book = (2, (XOR, NOT))
         whole = ((0, 1),)
