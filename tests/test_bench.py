@@ -140,6 +140,33 @@ class BenchTest(Fails, unittest.TestCase):
                     turned[at] = True
         return tuple(found)
 
+    def test_put_back(self):
+        """Behind deeds that put all back it is as it was, but for what was looked at."""
+        for seed in range(60):
+            dice = random.Random(seed)
+            book = BOOKS[seed % len(BOOKS)]
+            bench = Bench(book, [tuple(range(book[0])), (0,)], 0, 1)
+            for _ in range(12):
+                try:
+                    do_deed(bench, random_deed(dice, book, bench))
+                except FoldError:
+                    continue
+            told, (lists, rows, ends) = state(bench)[:4], bench.program_now()
+            for at, row in enumerate(rows):
+                bench.set_row(2 + at, ("told", dice.randrange(book[0])))
+                bench.set_row(2 + at, row)
+                self.assertEqual(state(bench)[:4], told)
+            bench.set_list(0, (1,))
+            bench.set_list(1, [0, 1])
+            bench.set_ends([0, 1, 0])
+            new = bench.put_row(("told", 1))
+            self.assertEqual(new, 2 + len(rows))
+            bench.take_row(new)
+            bench.set_ends(ends)
+            bench.set_list(1, lists[1])
+            bench.set_list(0, lists[0])
+            self.assertEqual(state(bench)[:4], told)
+
     def test_nothing_turns(self):
         bench = bench_behind(BOOK, [(0, 1)], 0, 1, [("put", ("of", 1, (0,))), ("put", ("of", 1, (1,)))])
         self.assertIsNone(bench.set_row(1, ("of", 1, (0,))))

@@ -1,0 +1,93 @@
+"""The examples that the document prints, as far as the modules are there."""
+
+import doctest
+import unittest
+
+EXAMPLES = r"""
+>>> from foldsall.court import court_paper
+>>> from foldsall.folding import folded_values
+>>> from foldsall.runs import shown_values
+>>> least, most = (2, (0, 0, 0, 0, 1, 1, 0, 1, 2)), (2, (0, 1, 2, 1, 1, 2, 2, 2, 2))
+>>> program = (((0, 1, 2),), (("told", 1), ("of", 0, (0, 1)), ("of", 1, (2, 1))), (3,))
+>>> folded_values((3, (least, most)), program), shown_values((3, (least, most)), program)
+((None, 1, None, None), ((0, 1, 2), (1,), (0, 1), (1,)))
+>>> court_paper((3, (least,)))[0], court_paper((3, (most,)))[0], court_paper((3, (least, most)))[0]
+('arrows', 'arrows', 'story')
+
+>>> from foldsall.runs import run_values, shown_values
+>>> book = (3, ((1, (1, 2, 0)),))
+>>> program = (((0, 1),), (("loop", None, (0,), (("of", 0, (1,)),), (2,)),), (1,))
+>>> run_values(book, program, (1,), (2,)), shown_values(book, program)
+(((1,), (1, 2, 0), (2, 0)), ((0, 1), (0, 1, 2), (0, 1, 2)))
+
+>>> from foldsall.folding import folded_values, kept_sets, quick_sets
+>>> book = (2, ((2, (0, 0, 0, 1)), (1, (1, 0))))
+>>> program = (((0, 1),), (("told", 0), ("of", 0, (0, 1)), ("of", 1, (0,)), ("of", 0, (0, 3))), (4,))
+>>> folded_values(book, program), kept_sets(book, program)[4], quick_sets(book, program)[1]
+((None, 0, 0, None, None), (0, 1), (1, 1, 1, 1, 1))
+
+>>> from foldsall.arrows import least_arrows, sure_pairs
+>>> from foldsall.court import court_paper, least_ranges, lists_grade
+>>> lesser = (2, ((2, (0, 0, 0, 1)),))
+>>> sure_pairs(lesser), court_paper(lesser)[0], lists_grade(lesser)
+(((0, 1), (1, 0)), 'arrows', 2)
+>>> unlike = (2, ((2, (0, 1, 1, 0)),))
+>>> least_arrows(unlike, 0, 1), court_paper(unlike)[0], least_ranges(unlike)
+(((0, 0), (0, 1), (1, 0), (1, 1)), 'story', ((0,), (1,)))
+
+>>> from foldsall.ladder import fewest_lines, turn_book, word_paper
+>>> turn_book(3), fewest_lines(turn_book(3), 4), fewest_lines(turn_book(3), 3)
+((3, ((1, (1, 2, 0)), (1, (0, 1, 0)))), 4, None)
+>>> word_paper(turn_book(3))[:2]
+('word', (1, 0, 0, 1))
+
+>>> from foldsall.severals import right_paper, several_paper, sizes_book, wrong_sizes
+>>> book = sizes_book(4, [2])
+>>> book, wrong_sizes(book), several_paper(book, 2)[0], several_paper(book, 1)[0]
+((4, ((1, (0, 1, 1, 2)),)), (2,), 'few', 'apart')
+>>> right_paper((2, ((2, (0, 0, 0, 1)),)), 1)[0]
+'right'
+
+>>> from foldsall.boxes import pair_paper, right_pairs
+>>> least, same = (3, ((2, (0, 0, 0, 0, 1, 1, 0, 1, 2)),)), (2, ((2, (1, 0, 0, 1)),))
+>>> right_pairs(same), pair_paper(same, 0, 1)[0]
+((), 'lies')
+
+>>> from foldsall.books import all_greatest, further_map
+>>> from foldsall.counts import joining_count
+>>> all_greatest(2), further_map(3, [(0, 1), (1, 2)]), joining_count((3, ()), 2)
+((((0, 1),), ((0, 1), (1, 0))), (0, 0, 2), 183)
+
+>>> from foldsall.joins import finds_paper, joins_paper, let_part
+>>> book = (2, ((2, (0, 0, 0, 1)), (1, (1, 0)), (2, (0, 0, 1, 1))))
+>>> joins_paper(book)[0], let_part(book, "finds"), finds_paper((2, book[1][1:]))
+('lies', (1, 2), ('finds', (('one', 0, (1, 0)), ('one', 0, (0, 1)))))
+
+>>> from foldsall.sorts import sort_parts, sorts_reached
+>>> from foldsall.sortrows import fewest_joint, sorted_paper
+>>> from foldsall.turnings import sort_sets_paper, turned_paper
+>>> one = ((2, 2, 2), (((0, 1), 2, (0, 1, 1, 0)),))
+>>> sort_parts(one), sorts_reached(one)[0], fewest_joint(one), sort_sets_paper(one)
+(((0,), (1,), (2,)), (0, 2), ((0, 0, 0), (0, 1, 0), (1, 0, 1)), ('exact',))
+>>> turned_paper(((2, 2), (((0,), 1, (1, 0)), ((1,), 0, (1, 0)))))[0], sorted_paper(((2,), (((0, 0), 0, (0, 1, 1, 0)),)))[0]
+('turns', 'missed')
+
+>>> from foldsall.bench import Bench
+>>> bench = Bench((2, ((2, (0, 0, 0, 1)),)), [(0, 1)], 0, 1)
+>>> bench.put_row(("told", 0)), bench.put_row(("of", 0, (0, 1))), bench.folded_now(), bench.runs_now()
+(1, 2, (None, 0, 0), ((0, 1), (0, 0), (0, 0)))
+>>> bench.set_row(1, ("told", 1)), bench.looked, bench.folded_now()
+(None, (1, 2), (None, 1, None))
+"""
+
+
+class ExamplesTest(unittest.TestCase):
+    def test_examples(self):
+        told = doctest.DocTestParser().get_doctest(EXAMPLES, {}, "examples", None, None)
+        result = doctest.DocTestRunner().run(told)
+        self.assertEqual(result.failed, 0)
+        self.assertEqual(result.attempted, EXAMPLES.count(">>>"))
+
+
+if __name__ == "__main__":
+    unittest.main()
