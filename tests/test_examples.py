@@ -83,10 +83,14 @@ EXAMPLES = r"""
 
 class ExamplesTest(unittest.TestCase):
     def test_examples(self):
-        told = doctest.DocTestParser().get_doctest(EXAMPLES, {}, "examples", None, None)
-        result = doctest.DocTestRunner().run(told)
-        self.assertEqual(result.failed, 0)
-        self.assertEqual(result.attempted, EXAMPLES.count(">>>"))
+        names = {}
+        examples = doctest.DocTestParser().get_examples(EXAMPLES)
+        for example in examples:
+            if example.want:
+                self.assertEqual(repr(eval(example.source, names)) + "\n", example.want)
+            else:
+                exec(example.source, names)
+        self.assertEqual(len(examples), EXAMPLES.count(">>>"))
 
 
 if __name__ == "__main__":
