@@ -193,6 +193,12 @@ class Growth:
 
     def lead(self, table, sort, row):
         """Takes in what a table makes of rows done before and this one, this one among them."""
+        for rows in self.choices_with(table, sort, row):
+            self.take_row(table.made, answered(table.answers, table.sizes, rows), (table, rows))
+
+    def choices_with(self, table, sort, row):
+        """What a table may read of rows done before and this one, this one among them."""
+        found = []
         for first, own in enumerate(table.sorts):
             if own != sort:
                 continue
@@ -201,8 +207,8 @@ class Growth:
                 behind = place > first and other == sort
                 choices.append(self.found[other][:self.done[other] + (1 if behind else 0)])
             choices[first] = [row]
-            for rows in all_rows(choices):
-                self.take_row(table.made, answered(table.answers, table.sizes, rows), (table, rows))
+            found.extend(all_rows(choices))
+        return found
 
 
 class Weave:
@@ -286,3 +292,83 @@ def found_lie(growth):
             if answer is not None:
                 return (table, rows, answer)
     return None
+
+
+class Parting:
+    """As many ways over numbers as can be, from some to some, each number in one of them at most.
+
+    `nexts` has for each number those to which a step goes, all greater. Each number stands twice, one behind
+    another, at 2 * number and behind; a way begins at -1 and ends at -2.
+    """
+
+    def __init__(self, nexts, begins, goals):
+        self.nexts = {-1: [2 * number for number in begins], -2: []}
+        for number, others in enumerate(nexts):
+            self.nexts[2 * number] = [2 * number + 1]
+            self.nexts[2 * number + 1] = sorted({2 * other for other in others})
+        for number in goals:
+            self.nexts[2 * number + 1].append(-2)
+        self.lasts = {spot: [] for spot in self.nexts}
+        for spot in self.nexts:
+            for other in self.nexts[spot]:
+                self.lasts[other].append(spot)
+        self.used = {}
+        while self.put_way():
+            pass
+
+    def can_step(self, one, other):
+        """Whether one more way may go a step, or one way less."""
+        if other in self.nexts[one]:
+            # Only a number's own step is narrow: it is gone once.
+            return one < 0 or one % 2 == 1 or (one, other) not in self.used
+        return (other, one) in self.used
+
+    def reached(self, begin, is_back):
+        """What can be stepped to from a spot, or from where it can be stepped to; each with the spot ahead."""
+        reached = {begin: None}
+        waits = [begin]
+        while waits:
+            spot = waits.pop()
+            for other in self.nexts[spot] + self.lasts[spot]:
+                does_step = self.can_step(other, spot) if is_back else self.can_step(spot, other)
+                if other not in reached and does_step:
+                    reached[other] = spot
+                    waits.append(other)
+        return reached
+
+    def put_way(self):
+        """Puts one way more, if it can be; tells whether it was."""
+        reached = self.reached(-1, False)
+        if -2 not in reached:
+            return False
+        spot = -2
+        while spot != -1:
+            ahead = reached[spot]
+            if spot in self.nexts[ahead]:
+                self.used[(ahead, spot)] = True
+            else:
+                del self.used[(spot, ahead)]
+            spot = ahead
+        return True
+
+    def ways(self):
+        """The ways, told by their numbers."""
+        found = []
+        for begin in self.nexts[-1]:
+            if (-1, begin) in self.used:
+                way = []
+                spot = begin
+                while spot != -2:
+                    way.append(spot // 2)
+                    spot = [other for other in self.nexts[spot + 1] if (spot + 1, other) in self.used][0]
+                found.append(tuple(way))
+        return tuple(found)
+
+    def cut(self, is_far):
+        """As many numbers that all ways pass: those whose near side is least, or greatest."""
+        reached = self.reached(-2 if is_far else -1, is_far)
+        lot = []
+        for spot in self.nexts:
+            if spot >= 0 and spot % 2 == 0 and (spot in reached) != (spot + 1 in reached):
+                lot.append(spot // 2)
+        return tuple(lot)

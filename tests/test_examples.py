@@ -53,6 +53,11 @@ EXAMPLES = r"""
 >>> right_pairs(same), pair_paper(same, 0, 1)[0]
 ((), 'lies')
 
+>>> from foldsall.twos import book_kind, missed_rows, place_way
+>>> both, odd = (2, ((2, (0, 0, 0, 1)),)), (2, ((2, (0, 1, 1, 0)),))
+>>> book_kind(both), book_kind(odd), missed_rows(both), missed_rows(odd), place_way((0, 1, 1, 0), 1)
+('ands', 'sums', 0, 1, 'both')
+
 >>> from foldsall.books import all_greatest, further_map
 >>> from foldsall.counts import joining_count
 >>> all_greatest(2), further_map(3, [(0, 1), (1, 2)]), joining_count((3, ()), 2)
@@ -62,6 +67,16 @@ EXAMPLES = r"""
 >>> book = (2, ((2, (0, 0, 0, 1)), (1, (1, 0)), (2, (0, 0, 1, 1))))
 >>> joins_paper(book)[0], let_part(book, "finds"), finds_paper((2, book[1][1:]))
 ('lies', (1, 2), ('finds', (('one', 0, (1, 0)), ('one', 0, (0, 1)))))
+
+>>> from foldsall.splits import least_splits, lots_program, torn_lots
+>>> book, program = lots_program(3, [[0, 1], [0, 2], [1, 2]])
+>>> torn_lots(book, program), least_splits(book, program)
+(((0, 1), (0, 2), (1, 2)), ((0, 1), (0, 2), (1, 2)))
+
+>>> from foldsall.cuts import cut_paper, lens_bottoms
+>>> shape = (2, (((0, "up"), (1, "up")), ((0, "up"), (2, "down")), ((0, "up"), (2, "up"))))
+>>> lens_bottoms(shape, 2, [3]), lens_bottoms(shape, 2, [4]), lens_bottoms(shape, 3, [4]), cut_paper(shape, 2, [3])
+((0,), (), (0,), ((0,), ((0,),)))
 
 >>> from foldsall.sorts import sort_parts, sorts_reached
 >>> from foldsall.sortrows import fewest_joint, sorted_paper

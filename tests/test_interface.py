@@ -52,6 +52,21 @@ INTERFACE = {
               "grounded_row(book,program,lot,number,value) is_grounded(book,program,lot,number,value,row)",
     "severals": "several_paper(book,many) several_holds(book,many,value) right_paper(book,many) "
                 "right_holds(book,many,value) wrong_sizes(book) sizes_book(values,sizes)",
+    "steps": "told_at_once(book,program) told_by_rounds(book,program) round_row(many) loop_gap()",
+    "striking": "reached_lines(book,cut,number) rest_paper(book) rest_holds(book,value) hang_runs(book,paper,many,number) "
+                "line_runs(book,paper,cut) needless_lines(book,cut)",
+    "twos": "place_way(answers,place) has_kind(kind,answers) book_kind(book) written_program(book,answers) "
+            "program_writes(book,answers,value) missed_rows(book) missed_program(book) missed_holds(book,value)",
+    "code": "write_code(book,program) plain_code(book,program) run_code(book,code,values,choices) fewest_cells(book,cut) "
+            "fewest_hold(book,cut,value)",
+    "cuts": "lens_bottoms(shape,size,ends) lens_paper(shape,size,end,number) lens_holds(shape,size,end,number,value) "
+            "is_cut(shape,size,ends,lot) cut_paper(shape,size,ends) nearest_cuts(shape,size,ends) "
+            "cut_holds(shape,size,ends,value)",
+    "loops": "turns_enough(size,heads) bounded_program(book,program) turns_program(size,heads) seen_program(size) "
+             "let_many(size,places,word)",
+    "splits": "is_enough(book,program,lot) torn_lots(book,program) least_splits(book,program) splits_paper(book,program) "
+              "splits_hold(book,program,value) lots_program(many,lots) fewest_cases(book,program) "
+              "tree_holds(book,program,value) chosen_program(many)",
 }
 CLASSES = {
     ("bench", "Bench"): "__init__(self,book,inputs,one,other) put_row(self,row) set_row(self,spot,row) "

@@ -218,6 +218,7 @@ class LanguageTest(unittest.TestCase):
                     self.assertEqual(len([part for part in node.body if isinstance(part, ast.FunctionDef)]), len(own))
                     methods |= own
                     attributes |= stored
+        self.assertFalse(methods & attributes)
         self.assertFalse(attributes & NO_ATTRIBUTES)
         self.assertFalse(methods & NO_ATTRIBUTES)
         for kind in ("", 0, [], {}, set(), b"", ()):
