@@ -257,7 +257,7 @@ class CutsTest(Fails, unittest.TestCase):
                     self.assertIs(cut_holds(shape, size, ends, (lot, paper[1])), True)
                     self.assertTrue(reached(shape, near) <= reached(shape, lot) <= reached(shape, far))
                     self.assertEqual(reached(shape, lot) == reached(shape, near), lot == near)
-        self.assertGreater(many_ways, 30)
+        self.assertGreater(many_ways, 20)
 
     def test_a_cut_is_enough(self):
         """In programs that fit, with random operations: split at a cut the ends miss nothing."""
