@@ -1,4 +1,4 @@
-"""The examples that the document prints, as far as the modules are there."""
+"""The examples that the document prints."""
 
 import doctest
 import unittest
@@ -49,14 +49,24 @@ EXAMPLES = r"""
 'right'
 
 >>> from foldsall.boxes import pair_paper, right_pairs
+>>> from foldsall.spread import all_right
 >>> least, same = (3, ((2, (0, 0, 0, 0, 1, 1, 0, 1, 2)),)), (2, ((2, (1, 0, 0, 1)),))
->>> right_pairs(same), pair_paper(same, 0, 1)[0]
-((), 'lies')
+>>> all_right(least), right_pairs(same), pair_paper(same, 0, 1)[0]
+(True, (), 'lies')
+
+>>> from foldsall.alikes import alike_paper, alike_runs
+>>> alike_runs([(0, 1), (0, 2), (0, 1)])
+((0, 0, 0), (0, 2, 0), (1, 0, 1), (1, 2, 1))
+>>> alike_paper((2, ((2, (1, 0, 0, 1)),)), [(0, 1)], 9)[0]
+'more'
 
 >>> from foldsall.twos import book_kind, missed_rows, place_way
+>>> from foldsall.trials import fewest_trials, kind_count, trials_paper
 >>> both, odd = (2, ((2, (0, 0, 0, 1)),)), (2, ((2, (0, 1, 1, 0)),))
 >>> book_kind(both), book_kind(odd), missed_rows(both), missed_rows(odd), place_way((0, 1, 1, 0), 1)
 ('ands', 'sums', 0, 1, 'both')
+>>> fewest_trials(odd, 3), trials_paper(both, 2, [(1, 1), (0, 0)]), kind_count("ors", 2), kind_count("rising", 2)
+(4, ('enough',), 5, 6)
 
 >>> from foldsall.books import all_greatest, further_map
 >>> from foldsall.counts import joining_count
@@ -93,6 +103,20 @@ EXAMPLES = r"""
 (1, 2, (None, 0, 0), ((0, 1), (0, 0), (0, 0)))
 >>> bench.set_row(1, ("told", 1)), bench.looked, bench.folded_now()
 (None, (1, 2), (None, 1, None))
+
+>>> from foldsall.live import Live
+>>> live = Live((2, ((2, (0, 0, 0, 1)),)), [(0, 1)], 0, 1)
+>>> live.do_deed(("put", ("told", 0))), live.do_deed(("put", ("of", 0, (0, 1)))), live.bench.folded_now()
+((1,), (2,), (None, 0, 0))
+>>> live.folded_if(0, ("put", ("told", 1))), live.undo_deed(), live.folded_then(1), live.redo_deed(), live.redo_deed()
+((2, (None, 1, None)), True, (None, 0), True, False)
+
+>>> from foldsall.desk import Desk
+>>> desk = Desk()
+>>> desk.say("open 0 1\nsize 2\n& 2 left : 0 0 0 1\nin a\nout a & 0"), desk.say("folded"), desk.say("put r0 & r2 & 1")
+('yes', '? 0 0', 'r3 r4 r5')
+>>> desk.say("program").split("\n"), desk.say("runs"), desk.say("court")[:6]
+(['in r0', 'r2 = r0 & 0', 'r5 = r0 & r2 & 1', 'out r2'], '0 1, 0 0, 0 0, 0 0, 1 1, 0 0', 'arrows')
 """
 
 

@@ -67,11 +67,26 @@ INTERFACE = {
     "splits": "is_enough(book,program,lot) torn_lots(book,program) least_splits(book,program) splits_paper(book,program) "
               "splits_hold(book,program,value) lots_program(many,lots) fewest_cases(book,program) "
               "tree_holds(book,program,value) chosen_program(many)",
+    "spread": "list_rows(book,values,most) list_paper(book,values,most) list_holds(book,values,value) right_lists(book) "
+              "all_right(book)",
+    "trials": "trials_paper(book,many,runs) trials_hold(book,many,runs,value) fewest_trials(book,many) "
+              "kind_count(kind,places) rising_answers(many)",
+    "alikes": "alike_runs(lists) same_inputs(book,program) alike_run(book,program,number,value) "
+              "alike_paper(book,lists,most) alike_holds(book,lists,value) runs_paper(book,lists,runs,most) "
+              "runs_hold(book,lists,runs,value) fewest_runs(book,lists,most) "
+              "telling_paper(book,values,part,kept,most) telling_holds(book,values,part,kept,value) "
+              "telling_parts(book,values,kept,most)",
+    "looks": "look_holds(value) make_look(word,question) wrong_looks(values)",
+    "signs": "fits_shape(shape,book,program) program_shape(book,program) told_cut(book,program) "
+             "lying_program(shape,size,ends,lot)",
 }
 CLASSES = {
     ("bench", "Bench"): "__init__(self,book,inputs,one,other) put_row(self,row) set_row(self,spot,row) "
                         "take_row(self,spot) set_list(self,number,values) set_ends(self,registers) program_now(self) "
                         "folded_now(self) kept_now(self) runs_now(self)",
+    ("live", "Live"): "__init__(self,book,inputs,one,other) do_deed(self,deed) undo_deed(self) redo_deed(self) "
+                      "folded_then(self,number) folded_if(self,number,deed) plain_now(self) code_now(self)",
+    ("desk", "Desk"): "__init__(self) say(self,command)",
 }
 
 
