@@ -149,7 +149,8 @@ class CodesTest(Fails, unittest.TestCase):
             ("copy", 0, ("cell", 0, 0)), ("copy", 0, (0, 0)), ("jump", 4), ("jump", -1), ("jump", None), ("jump",),
             ("test", 0, 2, 0), ("test", 0, 0, 4), ("test", 0, 0), ("test", None, 0, 0), ("choose", 4), ("choose", 0, 0), ("turns", 0, -1),
             ("turns", 0, True), ("turns", 0), ("turns", -1, 0), ("turn", 0, 4), ("turn", None, 0), ("turn", 0), ("tell", 0),
-            ("tell", ("value", None)), ("tell", ("cell",)), ("tell", ("cell", 0), 0), (("put",), 0, 0), ("in", 0)]
+            ("tell", ("value", None)), ("tell", ("cell",)), ("tell", ("cell", 0), 0), (("put",), 0, 0), ("in", 0), (["put"], 0, 0),
+            ("tell", (["cell"], 0)), ("copy", 0, ({}, 0)), ({}, 0)]
         for value in wrong:
             self.fails_at(InvalidCode, 0, run_code, BOOK, ((), (value, ("tell", 0), ("tell", ("cell", 0)))), None, None)
             self.fails_at(InvalidCode, 1, run_code, BOOK, ((), (("put", 0, 0), value, ("tell", ("cell", 0)))), None, None)

@@ -145,7 +145,7 @@ def is_right(book, value):
 
 
 def small_books():
-    yield from ((2, ()), (3, ()))
+    yield from ((2, ()), (3, ()), (2, (AND, AND)), (3, ((1, (2, 2, 2)), (2, (0,) * 9))), (3, (TURN, TURN, LEAST)))
     small = all_operations(2, 1) + all_operations(2, 2)
     for operation in small:
         yield (2, (operation,))

@@ -57,7 +57,7 @@ def brute_kind(book):
 
 
 def small_books():
-    yield (2, ())
+    yield from ((2, ()), (2, (AND, AND)), (2, (XOR, XOR, NOT, NOT)), (2, (KEEP,) * 8))
     for operation in SMALL:
         yield (2, (operation,))
     for pair in itertools.combinations(SMALL, 2):
