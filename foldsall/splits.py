@@ -127,16 +127,15 @@ class Tearing:
         self.torn = {}
         self.enough = [()]
         self.proved = {}
-        while True:
-            lot = self.next_lot()
-            if lot is None:
-                return
+        lot = self.next_lot()
+        while lot is not None:
             miss = ways.torn_apart(lot)
             if miss is None:
                 self.proved[lot] = True
             else:
                 self.torn[torn_lot(miss)] = miss
                 self.enough = met_by(self.enough, torn_lot(miss))
+            lot = self.next_lot()
 
     def next_lot(self):
         """The first lot that meets all torn ones so far, and of which it isn't known that it is enough."""
