@@ -1,6 +1,7 @@
 """[54]: programs that fit shapes, the shapes of programs, and programs that miss something where there is no cut."""
 
 import itertools
+import math
 import random
 import unittest
 
@@ -10,7 +11,7 @@ from foldsall.missed import is_grounded
 from foldsall.programs import need_program
 from foldsall.runs import shown_values
 from foldsall.signs import fits_shape, lying_program, program_shape, told_cut
-from foldsall.splits import is_enough, splits_paper
+from foldsall.splits import is_enough, splits_paper, torn_lots
 from foldsall.tables import need_book
 from tests.helpers import (AND, ANYTHING, LEAST, MOST, NOT, OR, TURN, XOR, Fails, Writer, all_operations, answer, has_lists, in_lists,
                            no_rows_of, no_sequences, no_values, rows_of)
@@ -159,6 +160,30 @@ class LyingTest(Fails, unittest.TestCase):
                         self.look_at(shape, size, ends, lot)
                         lies += 1
         self.assertGreater(min(lies, cuts), 300)
+
+    def test_all_programs_that_fit(self):
+        """Of small shapes, all programs gone through: a lot is enough in all of them exactly if it is a cut."""
+        looked = 0
+        for seed in range(400):
+            shape = random_shape(3 * seed + 1, 3)
+            choices = []
+            for row in shape[1]:
+                operations = [one for one in all_operations(2, len(row)) if row
+                              and all(does_fit(2, one, at, word) for at, (_, word) in enumerate(row))]
+                choices.append([(row, one) for one in operations] if row else [(row, value) for value in (0, 1)])
+            if not shape[1] or math.prod(map(len, choices)) > 260:
+                continue
+            ends, missed = (many_of(shape) - 1,), set()
+            for made in itertools.product(*choices):
+                rows = tuple(("of", at, tuple(read for read, _ in row)) if row else ("told", one) for at, (row, one) in enumerate(made))
+                book = (2, tuple(one if row else NOT for row, one in made))
+                program = (((0, 1),) * shape[0], rows, ends)
+                self.assertTrue(fits(shape, book, program))
+                missed |= set(torn_lots(book, program))
+            for lot in lots_of(many_of(shape)):
+                self.assertIs(is_cut(shape, 2, ends, lot), all(set(lot) & set(torn) for torn in missed))
+            looked += bool(missed)
+        self.assertGreater(looked, 20)
 
     def test_least_lots(self):
         """A cut of the fewest registers, one register left out, is none."""

@@ -76,6 +76,8 @@ def is_paper(book, values, paper, word="exact"):
 
 def books():
     yield from ((2, ()), (3, ()), (3, (LEAST, LEAST)), (3, ((2, (1,) * 9), (1, (0, 0, 0)))), LESS, BOOK, (3, (LEAST, MOST)), (3, (SUM,)), (3, (TURN,)), (3, (TURN, LEAST)), (2, (AND, OR)), (2, (AND, NOT)))
+    for operation in all_operations(2, 1) + all_operations(2, 2):
+        yield (2, (operation,))
     dice = random.Random(2)
     for _ in range(60):
         size = dice.choice((2, 3, 3))
